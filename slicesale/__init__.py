@@ -1,0 +1,1 @@
+"""A book auctioned in like slices."""

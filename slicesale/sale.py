@@ -24,14 +24,21 @@ def without_bid(sale, who):
     return Sale(sale.slices, sale.reserve, bids)
 
 
+def bidders():
+    return list(range(1, BIDDERS + 1))
+
+
+def row_of(sale, who):
+    if who == HOUSE:
+        return [sale.reserve] * sale.slices
+    return sale.bids.get(who, [])
+
+
 # An offer is a pair: whose it is, and its amount.
 def all_offers(sale):
     offers = []
-    for who in range(1, BIDDERS + 1):
-        for amount in sale.bids.get(who, []):
-            offers.append((who, amount))
-    for place in range(sale.slices):
-        offers.append((HOUSE, sale.reserve))
+    for who in bidders() + [HOUSE]:
+        offers.extend([(who, amount) for amount in row_of(sale, who)])
     return offers
 
 
@@ -41,9 +48,16 @@ def greater_first(offer):
 
 # Sorting leaves equal offers as all_offers has them, and that is as ties go: the lesser bidder
 # first, the house last, and of one bidder the earlier offer first.
+def in_order(sale):
+    return sorted(all_offers(sale), key=greater_first)
+
+
 def met_offers(sale):
-    ordered = sorted(all_offers(sale), key=greater_first)
-    return ordered[:sale.slices]
+    return in_order(sale)[:sale.slices]
+
+
+def left_offers(sale):
+    return in_order(sale)[sale.slices:]
 
 
 def amounts_of(offers):
@@ -62,10 +76,13 @@ def greatest_sum(sale):
     return sum(amounts_of(met_offers(sale)))
 
 
-# The house is 0, so what stays comes ahead of what the bidders get.
+def got_by(sale, who):
+    return len(own_of(met_offers(sale), who))
+
+
 def split_of(sale):
     met = met_offers(sale)
-    return [len(own_of(met, who)) for who in range(BIDDERS + 1)]
+    return [len(own_of(met, who)) for who in [HOUSE] + bidders()]
 
 
 def payment_of(sale, who):
@@ -74,7 +91,7 @@ def payment_of(sale, who):
 
 
 def prices_of(sale, who):
-    got = len(own_of(met_offers(sale), who))
+    got = got_by(sale, who)
     met_else = met_offers(without_bid(sale, who))
     # Counted from the front: a slice [-got:] would be the whole list for a bidder who gets none.
     pushed_out = met_else[len(met_else) - got:]
@@ -83,3 +100,36 @@ def prices_of(sale, who):
 
 def income_of(sale):
     return sum([payment_of(sale, who) for who in sale.bids])
+
+
+def told_of(sale, who):
+    return sum(amounts_of(own_of(met_offers(sale), who)))
+
+
+# The house has an offer for each slice, so there is always one that's met.
+def least_met(sale):
+    return amounts_of(met_offers(sale))[-1]
+
+
+def proves(price, row, got):
+    if got > len(row):
+        return False
+    for_got = row[:got]
+    for_others = row[got:]
+    return all([amount >= price for amount in for_got]) and all([amount <= price for amount in for_others])
+
+
+# Who has no bid has no offers, and so can't get more than none.
+def shows_split(sale, price, split):
+    if sum(split) != sale.slices:
+        return False
+    return all([proves(price, row_of(sale, who), split[who]) for who in [HOUSE] + bidders()])
+
+
+def wanted_of(sale, who, price):
+    others = others_of(all_offers(sale), who)
+    return len([offer for offer in others if offer[1] > price])
+
+
+def gain_of(sale, who, truth):
+    return sum(truth[:got_by(sale, who)]) - payment_of(sale, who)

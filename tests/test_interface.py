@@ -4,12 +4,40 @@ import contextlib
 import io
 import unittest
 
-from calling import FAR, TOP, ask, bid, income, last, pays, prices, seen_after, slices, split, sum_of, take_apart, unbid
+from calling import (FAR, TOP, ask, between, bid, gain, ifbid, income, last, offers, one, pays, prices, seen_after,
+                     shows, slices, split, sum_of, take_apart, told, unbid, wanted)
 from slicesale.house import answers
 
-LINE = [0, 2, 1] + [1, 3, 2, 9, 0] + [1, 5, 1, 4] + [3] + [4] + [5, 3] + [6, 3] + [7] + [2, 5] + [2, 5] + [1, 9, 0]
-ANSWERED = [1, 0] + [1, 1] + [1, 2] + [9, 0, 0, 0, 1, 0, 1, 0, 0, 0] + [2, 0, 13] + [2, 0, 1] + [2, 1, 1]
-ANSWERED = ANSWERED + [2, 0, 2] + [1, 1] + [1, -2] + [1, -1]
+# All sixteen calls, with what each of them answers beside it.
+PAIRS = (
+    ([0, 2, 1], [1, 0]),
+    ([1, 5, 1, 4], [1, 1]),
+    ([1, 3, 2, 9, 0], [1, 2]),
+    ([3], [9, 0, 0, 0, 1, 0, 1, 0, 0, 0]),
+    ([4], [2, 0, 13]),
+    ([5, 3], [2, 0, 1]),
+    ([6, 3], [2, 1, 1]),
+    ([7], [2, 0, 2]),
+    ([8, 3], [2, 0, 9]),
+    ([9], [2, 1, 1]),
+    ([10], [3, 1, 1, 4]),
+    ([11, 4, 9, 0, 0, 0, 1, 0, 1, 0, 0, 0], [1, 1]),
+    ([12, 3, 0], [1, 3]),
+    ([13, 3, 2, 20, 30], [2, 0, 19]),
+    ([14, 8, 1, 7, 2, -5, 6], [2, 0, -9]),
+    ([15], [8, 2, 3, 2, 9, 0, 5, 1, 4]),
+    ([2, 5], [1, 1]),
+    ([2, 5], [1, -2]),
+    ([1, 9, 0], [1, -1]),
+    ([9], [2, 1, 1]),
+    ([10], [3, 1, 1, 1]),
+    ([2, 3], [1, 0]),
+    ([9], [1, 0]),
+    ([10], [2, 0, 1]),
+    ([15], [1, 0]),
+)
+LINE = [number for call, answer in PAIRS for number in call]
+ANSWERED = [number for call, answer in PAIRS for number in answer]
 
 
 def refuse(self, *given):
@@ -66,19 +94,38 @@ class Form(unittest.TestCase):
     def test_bids_may_hold_numbers_that_look_like_calls(self):
         found = ask(slices(3, 0), bid(1, 7, 4, 3), bid(2, 1, 0), bid(3, 0), bid(4), split())
         self.assertEqual(found, [[0], [1], [2], [3], [4], [0, 3, 0, 0, 0, 0, 0, 0, 0]])
+        found = ask(slices(2, 0), ifbid(1, [15], [9, 10]), ifbid(2, [], [3, 15]), ifbid(0, [9, 9], []), offers())
+        self.assertEqual(found, [[0], [0, 9], [0, 0], [-1], [0]])
 
     def test_after_a_refusal_the_next_call_is_found(self):
         long = [FAR, -FAR] * 32
         found = ask(slices(61, FAR), bid(1, *long), slices(2, 0), bid(9, *long), bid(1, *long), bid(1, 3), split())
         self.assertEqual(found, [[-1], [-7], [0], [-1], [-3], [1], [1, 1, 0, 0, 0, 0, 0, 0, 0]])
+        calls = (shows(FAR, long), gain(1, long), ifbid(9, long, long), ifbid(1, [], long), wanted(9, FAR), told(0))
+        found = ask(*calls, slices(2, 0), bid(1, 3), *calls, offers())
+        self.assertEqual(found, [[-7]] * 6 + [[0], [1]] + [[-3], [-3], [-1], [-6], [-2], [-2]] + [[1, 1, 1, 3]])
+
+    def test_lists_of_0_and_64_numbers(self):
+        for n in (1, 60):
+            found = ask(slices(n, 0), bid(1), shows(0, []), gain(1, []), ifbid(1, [], []), offers())
+            self.assertEqual(found, [[0], [1], [-3], [-3], [-6], [1, 1, 0]])
+            full = [1] * 64
+            found = ask(slices(n, 0), bid(1, *full), bid(1), shows(0, full), gain(1, full), ifbid(1, full, full),
+                        ifbid(1, [], full), offers())
+            self.assertEqual(found, [[0], [-3], [1], [-3], [-3], [-3], [-6], [1, 1, 0]])
 
 
 class BeforeSlices(unittest.TestCase):
     def test_refused_first_of_all(self):
         numbers = (1, 8, 0, 9, FAR, -FAR)
-        calls = [split(), sum_of(), income()]
+        calls = [split(), sum_of(), income(), one(), between(), offers()]
         for who in numbers:
-            calls.extend([bid(who), bid(who, 1), bid(who, *[FAR] * 64), bid(who, 1, 2), unbid(who), pays(who), prices(who)])
+            calls.extend([bid(who), bid(who, 1), bid(who, *[FAR] * 64), bid(who, 1, 2), unbid(who)])
+            calls.extend([pays(who), prices(who), told(who), wanted(who, 0), wanted(who, FAR)])
+            calls.extend([gain(who, []), gain(who, [FAR] * 64)])
+            calls.extend([shows(who, []), shows(who, [0] * 9), shows(who, [61] * 9), shows(who, [0] * 64)])
+            calls.extend([ifbid(who, [], []), ifbid(who, [1], [1]), ifbid(who, [1, 2], [])])
+            calls.append(ifbid(who, [FAR] * 64, [FAR] * 64))
         for call in calls:
             self.assertEqual(ask(call), [[-7]], call)
         self.assertEqual(ask(*calls), [[-7]] * len(calls))
@@ -88,7 +135,8 @@ class BeforeSlices(unittest.TestCase):
         self.assertEqual(last(bid(1, 5), slices(2, 1), bid(2, 5)), [1])
 
     def test_never_behind_slices(self):
-        found = ask(slices(1, 0), bid(1), unbid(1), unbid(1), split(), sum_of(), pays(1), prices(1), income())
+        found = ask(slices(1, 0), bid(1), unbid(1), unbid(1), split(), sum_of(), pays(1), prices(1), income(), told(1),
+                    one(), between(), shows(0, []), wanted(1, 0), gain(1, []), ifbid(1, [], []), offers())
         self.assertNotIn([-7], found)
         self.assertNotIn([-7], seen_after(slices(1, 0), slices(0, 0)))
 
@@ -121,6 +169,24 @@ class Bounds(unittest.TestCase):
         line = line + [3] * 61
         self.assertEqual(len(line), 17000)
         self.assertEqual(take_apart(answers(line))[-1], [59, 1] + [0] * 7)
+
+    def test_400_calls_of_each_kind_over_a_full_book(self):
+        full = [bid(who, *[TOP - who - place for place in range(60)]) for who in range(1, 9)]
+        nine = last(slices(60, -TOP), *full, split())
+        p = last(slices(60, -TOP), *full, between())[1]
+        truth = [TOP] * 60
+        asked = (told(8), one(), between(), shows(p, nine), wanted(1, -FAR), gain(4, truth), ifbid(5, [TOP], truth),
+                 offers())
+        calls = [slices(60, -TOP)] + full
+        while len(calls) < 400:
+            calls.append(asked[len(calls) % 8])
+        line = [number for call in calls for number in call]
+        self.assertLessEqual(len(line), 17000)
+        found = take_apart(answers(line))
+        self.assertEqual(len(found), 400)
+        self.assertEqual(found[9:393], found[9:17] * 48)
+        self.assertEqual(found[11], [1])
+        self.assertEqual(len(found[15]), 1 + 8 * 62)
 
     def test_400_slices_calls(self):
         self.assertEqual(answers([0, 60, 0] * 400), [1, 0] * 400)
